@@ -3,6 +3,7 @@ package user_test
 import (
 	"bytes"
 	"slices"
+	"strings"
 	"testing"
 
 	"interrex/api"
@@ -145,8 +146,7 @@ func TestP6_1GetShort(t *testing.T) {
 	}
 }
 
-// A user that is there whole, but may not be, is told as Check tells it, if
-// none of its parts is longer than may be.
+// A user that is there whole, but may not be, is told as Check tells it.
 func TestP6_1GetWhatMayNotBe(t *testing.T) {
 	for _, c := range []struct {
 		u        api.User
@@ -194,33 +194,86 @@ func TestP6_1GetReadersErrors(t *testing.T) {
 	}
 }
 
-// Each part is read as long as it may be, and no longer.
-func TestP6_1GetLong(t *testing.T) {
-	longer := []struct {
-		what string
-		turn func(u *api.User)
-		only int // the schema that has the part, 0: both
-	}{
-		{"Name", func(u *api.User) { u.Name += "m" }, 0},
-		{"Hash", func(u *api.User) { u.Hash += "c" }, 0},
-		{"Mail", func(u *api.User) { u.Mail += "i" }, 2},
-		{"Groups", func(u *api.User) { u.Groups = append(u.Groups, "b") }, 2},
-		{"first group", func(u *api.User) { u.Groups[0] += "b" }, 2},
-		{"last group", func(u *api.User) { u.Groups[5] += "g" }, 2},
+// longer are ways to make a full user's part longer than it may be, with what
+// Check says of it.
+var longer = []struct {
+	what string
+	turn func(u *api.User)
+	only int // the schema that has the part, 0: both
+	e    api.Errno
+}{
+	{"Name", func(u *api.User) { u.Name += "m" }, 0, api.ErrName},
+	{"Name of 256", func(u *api.User) { u.Name = strings.Repeat("a", 256) }, 0, api.ErrName},
+	{"longest Name", func(u *api.User) { u.Name = strings.Repeat("a", 65535) }, 0, api.ErrName},
+	{"Hash", func(u *api.User) { u.Hash += "c" }, 0, api.ErrForm},
+	{"longest Hash", func(u *api.User) { u.Hash = strings.Repeat("1", 65535) }, 0, api.ErrForm},
+	{"Name and Hash", func(u *api.User) { u.Name, u.Hash = u.Name+"m", u.Hash+"c" }, 0, api.ErrName},
+	{"Mail", func(u *api.User) { u.Mail += "i" }, 2, api.ErrMail},
+	{"longest Mail", func(u *api.User) { u.Mail = "a@b." + strings.Repeat("c", 65531) }, 2, api.ErrMail},
+	{"Groups", func(u *api.User) { u.Groups = append(u.Groups, "b") }, 2, api.ErrFull},
+	{"most Groups", func(u *api.User) { u.Groups = make([]string, 65535) }, 2, api.ErrFull},
+	{"Groups, one of them longer", func(u *api.User) { u.Groups = append(u.Groups, "abcdefghijkff") }, 2, api.ErrFull},
+	{"Mail and Groups", func(u *api.User) { u.Mail, u.Groups = u.Mail+"i", append(u.Groups, "b") }, 2, api.ErrMail},
+	{"first group", func(u *api.User) { u.Groups[0] += "b" }, 2, api.ErrName},
+	{"last group", func(u *api.User) { u.Groups[5] += "g" }, 2, api.ErrName},
+	{"longest group", func(u *api.User) { u.Groups[5] = strings.Repeat("b", 65535) }, 2, api.ErrName},
+}
+
+// eachLonger tells all of them, in the schemas that have the part.
+func eachLonger(tell func(what string, schema int, u api.User, e api.Errno)) {
+	for schema := 1; schema <= 2; schema++ {
+		for _, l := range longer {
+			if l.only == 0 || l.only == schema {
+				u := full()
+				l.turn(&u)
+				tell("too long: "+l.what, schema, u, l.e)
+			}
+		}
 	}
+}
+
+// A part that is there whole is read however long it is; that it is longer
+// than may be is for Check to tell.
+func TestP6_1GetLong(t *testing.T) {
 	for schema := 1; schema <= 2; schema++ {
 		if r := octet.Of(written(schema, full())); isZero(user.Get(r, schema)) || r.End() != api.OK {
 			t.Error("the longest one isn't read", schema, r.End())
 		}
-		for _, l := range longer {
-			if l.only != 0 && l.only != schema {
-				continue
-			}
-			u := full()
-			l.turn(&u)
-			refuses(t, "one more: "+l.what, written(schema, u), schema, api.ErrLong)
+	}
+	eachLonger(func(what string, schema int, u api.User, e api.Errno) {
+		refuses(t, what, written(schema, u), schema, e)
+		refuses(t, what+", more behind it", append(written(schema, u), 9), schema, e)
+	})
+}
+
+// Of a part that is longer than may be bytes may be wanting, as of any other
+// one: in its length, in itself, behind it.
+func TestP6_1GetLongAndShort(t *testing.T) {
+	eachLonger(func(what string, schema int, u api.User, _ api.Errno) {
+		b := written(schema, u)
+		step := 1 + len(b)/100 // of long ones some beginnings are enough
+		for n := 0; n < len(b); n += step {
+			refuses(t, what, b[:n], schema, api.ErrShort)
 		}
-		refuses(t, "a name of 65535 bytes, of which none is there", []byte{255, 255}, schema, api.ErrLong)
+		refuses(t, what, b[:len(b)-1], schema, api.ErrShort)
+	})
+	for schema := 1; schema <= 2; schema++ {
+		for _, length := range [][]byte{{0, 1}, {13, 0}, {255, 255}} {
+			refuses(t, "a name of which no byte is there", length, schema, api.ErrShort)
+			refuses(t, "a sum of which no byte is there", append([]byte{1, 0, 'a'}, length...), schema, api.ErrShort)
+		}
+	}
+}
+
+// What the reader meets behind a part that is longer than may be is told ahead
+// of what Check says of that part.
+func TestP6_1GetReadersErrorsBehindLong(t *testing.T) {
+	for _, u := range []api.User{{Name: "abcdefghijklm", Hash: "1"}, {Name: "a", Hash: "0123456789abc"}} {
+		for x := 2; x < 256; x++ {
+			refuses(t, "no truth", append(written(1, u), 0, 0, byte(x), 0, 0), 2, api.ErrForm)
+		}
+		refuses(t, "address wanting", append(written(1, u), 21, 0, 'a'), 2, api.ErrShort)
+		refuses(t, "groups wanting", append(written(1, u), 0, 0, 0, 7, 0, 1, 0, 'a'), 2, api.ErrShort)
 	}
 }
 
