@@ -1,6 +1,7 @@
 package elder_test
 
 import (
+	"runtime"
 	"slices"
 	"strings"
 	"testing"
@@ -151,6 +152,32 @@ func (r *rows) set(n, hash string) api.Errno {
 	}
 	(*r)[i].Hash = hash
 	return api.OK
+}
+
+// room is how much memory is in use.
+func room() uint64 {
+	var m runtime.MemStats
+	runtime.GC()
+	runtime.ReadMemStats(&m)
+	return m.HeapAlloc
+}
+
+// cut is a text that is a piece of a long one.
+func cut(s string) string { return (s + strings.Repeat(" ", 1<<24))[:len(s)] }
+
+// Of the long text that a text is a piece of nothing stays.
+func TestP7_3WhatIsHandedInIsNotKept(t *testing.T) {
+	was := room()
+	d, e := elder.Of([]api.User{{Name: cut("ann"), Hash: cut("1")}})
+	is(t, "Of", e, api.OK)
+	is(t, "Create", d.Create(cut("bob"), cut("2")), api.OK)
+	is(t, "SetHash", d.SetHash(cut("ann"), cut("3")), api.OK)
+	is(t, "Create", d.Create("cid", "4"), api.OK)
+	is(t, "Delete", d.Delete(cut("cid")), api.OK)
+	if now := room(); now > was+1<<23 {
+		t.Error("so much more is in use:", now-was)
+	}
+	holds(t, "pieces", d, []api.User{{Name: "ann", Hash: "3"}, {Name: "bob", Hash: "2"}})
 }
 
 // Many deeds, good and bad ones, each held against the rows; what is refused
